@@ -1,0 +1,1 @@
+"""Pooledeyes: what eyes know together and what they know in common."""
