@@ -81,7 +81,7 @@ class Circle:
         return sorted(set([name for part in self._parts for name in part.eyes()]))
 
     def __str__(self):
-        return self._text
+        return str(self._text)
 
     def __repr__(self):
         return f"Circle({self._text})"

@@ -20,6 +20,27 @@ PARAMETERS = {
 }
 
 
+def is_written_out(node):
+    """Whether what a __str__ or a __repr__ returns is a string, an f-string, str(..), repr(..) or a literal's join."""
+    if isinstance(node, ast.Constant):
+        return isinstance(node.value, str)
+    if not isinstance(node, ast.Call):
+        return isinstance(node, ast.JoinedStr)
+    if isinstance(node.func, ast.Name):
+        return node.func.id in ("str", "repr")
+    return node.func.attr == "join" and isinstance(node.func.value, ast.Constant)
+
+
+def is_length(node):
+    """Whether what a __len__ returns is len(..) or a literal number."""
+    if isinstance(node, ast.Constant):
+        return isinstance(node.value, int)
+    return isinstance(node, ast.Call) and isinstance(node.func, ast.Name) and node.func.id == "len"
+
+
+RETURNED = {"__str__": is_written_out, "__repr__": is_written_out, "__len__": is_length}
+
+
 def source_files():
     """The files of the package."""
     return sorted(path for path in FOLDER.iterdir() if path.name != "__pycache__")
@@ -67,6 +88,18 @@ class FormTest(unittest.TestCase):
         self.assertEqual(Circle.__module__, "pooledeyes.circles")
         for name in ["parts", "eyes", "__str__", "__repr__", "__and__", "__or__", "__eq__"]:
             self.assertIn(name, vars(Circle))
+
+    def test_strings_and_lengths_are_returned_as_the_rules_tell(self):
+        found = []
+        for path in source_files():
+            for node in ast.walk(ast.parse(path.read_text())):
+                if isinstance(node, ast.FunctionDef) and node.name in RETURNED:
+                    found.append(node.name)
+                    self.assertIsInstance(node.body[-1], ast.Return, path)
+                    for row in ast.walk(node):
+                        if isinstance(row, ast.Return):
+                            self.assertTrue(RETURNED[node.name](row.value), (path, row.lineno))
+        self.assertEqual(sorted(found), ["__repr__", "__str__"])
 
 
 if __name__ == "__main__":
