@@ -2,6 +2,7 @@
 
 from pooledeyes.circles import common, eye, pool
 from pooledeyes.errors import InvalidName
+from pooledeyes.worlds import World
 
 OTHERS = [
     None, True, False, 0, 1, -1, 7, 60, 999999999,
@@ -19,16 +20,36 @@ def some_circles():
     return [eye("a"), pool(eye("a"), eye("b")), common(eye("a"), pool(eye("b"), eye("c")))]
 
 
+def some_worlds():
+    """New worlds."""
+    return [World(1), World(3, [("a", 1, 2)])]
+
+
 def without_strings():
     """Values of all kinds but strings."""
-    return OTHERS + some_circles()
+    return OTHERS + some_circles() + some_worlds()
 
 
 def without_circles():
     """Values of all kinds but circles."""
-    return OTHERS + STRINGS
+    return OTHERS + STRINGS + some_worlds()
 
 
 def any_values():
     """Values of all kinds."""
-    return OTHERS + STRINGS + some_circles()
+    return without_circles() + some_circles()
+
+
+def but_numbers(least, most):
+    """Values of all kinds but the numbers from least to most, with the numbers beside these."""
+    return [value for value in any_values() + [least - 1, most + 1] if not is_plain_number(value, least, most)]
+
+
+def but_names():
+    """Values of all kinds but names."""
+    return [value for value in any_values() if not isinstance(value, str) or value not in ("a", "abcdef")]
+
+
+def is_plain_number(value, least, most):
+    """Whether a value is an integer from least to most and no boolean."""
+    return isinstance(value, int) and not isinstance(value, bool) and least <= value <= most

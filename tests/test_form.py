@@ -5,18 +5,39 @@ import inspect
 import pathlib
 import unittest
 
-from pooledeyes import circles, circletexts, puts, words
+from pooledeyes import chains, circles, circletexts, events, partings, puts, showing, words, worlds
 from pooledeyes.circles import Circle
+from pooledeyes.worlds import World
 
 FOLDER = pathlib.Path(words.__file__).parent
 # In the order of the document, in which each module needs only those above it.
-MODULES = ["errors", "words", "circles", "circletexts", "puts"]
+MODULES = ["errors", "words", "circles", "circletexts", "puts", "partings", "worlds", "showing", "chains", "events"]
 PARAMETERS = {
     words: {"is_name": "(value)", "is_number": "(value, least, most)"},
     circles: {"eye": "(name)", "pool": "(*circles)", "common": "(*circles)"},
     circletexts: {"read_circle": "(text)", "is_circle_text": "(value)"},
     puts: {"put_in": "(circle, images)", "mirrored": "(circle)", "exchanged": "(circle, first, second)",
            "circles_in": "(circle)"},
+    partings: {"is_parting": "(value)", "apart": "(many)", "together": "(many)", "parting_of": "(many, pairs)",
+               "lots_of": "(parting)", "meet_of": "(first, second)", "join_of": "(first, second)",
+               "is_within": "(first, second)", "all_partings": "(many)"},
+    showing: {"world_table": "(world)"},
+    chains: {"links_of": "(circle)", "chain_between": "(world, circle, one, other)",
+             "is_chain": "(world, circle, one, other, value)", "lot_around": "(world, circle, case)",
+             "wall_stands": "(world, circle, value)", "wall_between": "(world, circle, one, other)",
+             "depth_of": "(world, circle)"},
+    events: {"is_known": "(world, circle, event, case)", "known": "(world, circle, event)",
+             "around": "(world, circle, event)", "is_settled": "(world, circle, event)",
+             "known_by_each": "(world, circle, event, rounds)"},
+}
+METHODS = {
+    Circle: {"parts": "(self)", "eyes": "(self)", "__str__": "(self)", "__repr__": "(self)",
+             "__and__": "(self, other)", "__or__": "(self, other)", "__eq__": "(self, other)"},
+    World: {"__init__": "(self, many, ties=())", "parted": "(many, partings)", "read": "(text)", "eyes": "(self)",
+            "partings": "(self)", "parting": "(self, circle)", "alike": "(self, circle, one, other)",
+            "tells": "(self, t, s)", "tied": "(self, name, one, other)", "kept_to": "(self, cases)",
+            "exchanged": "(self, first, second)", "text": "(self)", "__add__": "(self, other)", "__str__": "(self)",
+            "__repr__": "(self)", "__eq__": "(self, other)", "__len__": "(self)"},
 }
 
 
@@ -84,10 +105,16 @@ class FormTest(unittest.TestCase):
                 self.assertEqual(str(inspect.signature(function)), parameters, name)
                 self.assertEqual(function.__module__, module.__name__)
 
-    def test_circle_defines_its_methods(self):
-        self.assertEqual(Circle.__module__, "pooledeyes.circles")
-        for name in ["parts", "eyes", "__str__", "__repr__", "__and__", "__or__", "__eq__"]:
-            self.assertIn(name, vars(Circle))
+    def test_classes_define_their_methods(self):
+        self.assertEqual([Circle.__module__, World.__module__], ["pooledeyes.circles", "pooledeyes.worlds"])
+        for kind, methods in METHODS.items():
+            for name, parameters in methods.items():
+                self.assertIn(name, vars(kind))
+                self.assertEqual(str(inspect.signature(getattr(kind, name))), parameters, (kind, name))
+
+    def test_static_methods(self):
+        for name in ["parted", "read"]:
+            self.assertIsInstance(vars(World)[name], staticmethod)
 
     def test_strings_and_lengths_are_returned_as_the_rules_tell(self):
         found = []
@@ -99,7 +126,11 @@ class FormTest(unittest.TestCase):
                     for row in ast.walk(node):
                         if isinstance(row, ast.Return):
                             self.assertTrue(RETURNED[node.name](row.value), (path, row.lineno))
-        self.assertEqual(sorted(found), ["__repr__", "__str__"])
+        self.assertEqual(sorted(found), ["__len__"] + ["__repr__"] * 2 + ["__str__"] * 2)
+
+    def test_words_that_stand_in_no_file(self):
+        for path in source_files():
+            self.assertNotIn("_wall", path.read_text().lower(), path)
 
 
 if __name__ == "__main__":
