@@ -14,12 +14,7 @@ MOST_OPEN = 20
 
 def read_circle(text):
     """The circle with a circle text."""
-    if not isinstance(text, str):
-        raise InvalidText(-1)
-    tree, end = read_row(text, 0, 0)
-    if end < len(text):
-        raise InvalidText(end)
-    return grown(tree)
+    return grown(read_tree(text))
 
 
 def is_circle_text(value):
@@ -29,6 +24,16 @@ def is_circle_text(value):
     except (InvalidText, TooMany):
         return False
     return str(circle) == value
+
+
+def read_tree(text):
+    """The tree of a circle text, also of one whose circle is too great."""
+    if not isinstance(text, str):
+        raise InvalidText(-1)
+    tree, end = read_row(text, 0, 0)
+    if end < len(text):
+        raise InvalidText(end)
+    return tree
 
 
 def read_row(text, start, opened):

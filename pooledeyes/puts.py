@@ -1,4 +1,4 @@
-"""Putting circles in for eyes, mirroring, and exchanging eyes."""
+"""Putting circles in for eyes, mirroring, exchanging eyes, and putting eyes out."""
 
 from pooledeyes.circles import built, eye, without_repeats
 
@@ -32,3 +32,19 @@ def circles_in(circle):
     for part in circle.parts():
         found.extend(circles_in(part))
     return without_repeats(found)
+
+
+def put_out(circle, names, thinned):
+    """The circle built anew without some eyes, None if nothing is left.
+
+    What is put out is left out of the parts of a circle of the kind thinned, and
+    takes all of a circle of the other kind with it: above, an eye that is put out
+    sees nothing, so pools are thinned; beneath, it sees all, so commons are.
+    """
+    if circle.kind == "eye":
+        return None if circle.name in names else circle
+    parts = [put_out(part, names, thinned) for part in circle.parts()]
+    left = [part for part in parts if part is not None]
+    if len(left) == 0 or (circle.kind != thinned and len(left) < len(parts)):
+        return None
+    return built(circle.kind, left)

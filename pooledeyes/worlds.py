@@ -162,9 +162,7 @@ class World:
         """The world with one tie more."""
         check_names((name,))
         check_cases(self.many, (one, other))
-        further = linked(self.many, [(one, other)])
-        parting = joined([self.parting_named(name), further])
-        return world_with(self.many, {**self._partings, name: parting})
+        return tied_world(self, [(name, one, other)])
 
     def kept_to(self, cases):
         """The world of some of the cases, numbered anew in their order."""
@@ -213,3 +211,10 @@ def world_with(many, partings):
     world = World(many)
     world._partings = counting(many, partings)
     return world
+
+
+def tied_world(world, ties):
+    """The world with some right ties more."""
+    further = tied_partings(world.many, ties)
+    changed = {name: joined([world.parting_named(name), further[name]]) for name in further}
+    return world_with(world.many, {**world.partings(), **changed})

@@ -1,7 +1,11 @@
 """Values of all kinds, for what judges or refuses any value."""
 
+from pooledeyes.books import Book
 from pooledeyes.circles import common, eye, pool
 from pooledeyes.errors import InvalidName
+from pooledeyes.frames import Frame
+from pooledeyes.sights import Sights
+from pooledeyes.stretches import Stretch
 from pooledeyes.worlds import World
 
 OTHERS = [
@@ -25,14 +29,24 @@ def some_worlds():
     return [World(1), World(3, [("a", 1, 2)])]
 
 
+def some_books():
+    """New books, of which one has no grants."""
+    return [Book(), Book((eye("a"), "b"), (pool(eye("a"), eye("b")), "c"))]
+
+
+def some_things():
+    """New objects of the package that are neither circles nor errors."""
+    return some_worlds() + some_books() + [Frame(eye("a")), Stretch(World(2)), Sights(World(1), ["a"])]
+
+
 def without_strings():
     """Values of all kinds but strings."""
-    return OTHERS + some_circles() + some_worlds()
+    return OTHERS + some_circles() + some_things()
 
 
 def without_circles():
     """Values of all kinds but circles."""
-    return OTHERS + STRINGS + some_worlds()
+    return OTHERS + STRINGS + some_things()
 
 
 def any_values():

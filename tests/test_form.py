@@ -5,13 +5,22 @@ import inspect
 import pathlib
 import unittest
 
-from pooledeyes import chains, circles, circletexts, events, partings, puts, showing, words, worlds
+from pooledeyes import (betweens, books, chains, circles, circletexts, closings, descents, events, frames, keys, musts,
+                        outs,
+                        partings, puts, showing, sights, stretches, tables, words, worlds)
+from pooledeyes.books import Book
 from pooledeyes.circles import Circle
+from pooledeyes.frames import Frame
+from pooledeyes.sights import Sights
+from pooledeyes.stretches import Stretch
 from pooledeyes.worlds import World
 
 FOLDER = pathlib.Path(words.__file__).parent
-# In the order of the document, in which each module needs only those above it.
-MODULES = ["errors", "words", "circles", "circletexts", "puts", "partings", "worlds", "showing", "chains", "events"]
+# In the order of the document, in which each module needs only those above it; proofs is no module of the document.
+MODULES = ["errors", "words", "circles", "circletexts", "puts", "partings", "worlds", "showing", "chains", "events",
+           "frames",
+           "stretches", "proofs", "descents", "keys", "betweens", "outs", "sights", "books", "closings", "musts",
+           "tables"]
 PARAMETERS = {
     words: {"is_name": "(value)", "is_number": "(value, least, most)"},
     circles: {"eye": "(name)", "pool": "(*circles)", "common": "(*circles)"},
@@ -29,6 +38,18 @@ PARAMETERS = {
     events: {"is_known": "(world, circle, event, case)", "known": "(world, circle, event)",
              "around": "(world, circle, event)", "is_settled": "(world, circle, event)",
              "known_by_each": "(world, circle, event, rounds)"},
+    frames: {"laid_ties": "(circle, first, second, fresh, *, rounds=2, less=0)",
+             "count_ties": "(circle, *, rounds=2, less=0)", "count_cases": "(circle, *, rounds=2, less=0)"},
+    descents: {"tells": "(t, s)", "always_alike": "(t, s)", "descent_of": "(t, s)", "is_descent": "(t, s, value)"},
+    keys: {"key_of": "(circle)", "is_key": "(circle)", "essential_eyes": "(circle)"},
+    betweens: {"circle_between": "(t, s)"},
+    outs: {"out": "(circle, *eyes, above=True)"},
+    closings: {"closing_log": "(world, book)", "closed_world": "(world, book)", "walked": "(world, book, log)",
+               "is_log": "(world, book, value)"},
+    musts: {"closed_frame": "(book, t)", "must_tell": "(book, t, s)", "told_among": "(book, t, circles)",
+            "follows": "(book, circle, name)", "follows_from_others": "(book, at)", "lean": "(book)",
+            "books_alike": "(first, second)", "unlike_grant": "(first, second)", "grants_for": "(circle, shown)"},
+    tables: {"table_tells": "(book, t, s)", "derivation_of": "(book, t, s)", "is_derivation": "(book, t, s, value)"},
 }
 METHODS = {
     Circle: {"parts": "(self)", "eyes": "(self)", "__str__": "(self)", "__repr__": "(self)",
@@ -38,7 +59,22 @@ METHODS = {
             "tells": "(self, t, s)", "tied": "(self, name, one, other)", "kept_to": "(self, cases)",
             "exchanged": "(self, first, second)", "text": "(self)", "__add__": "(self, other)", "__str__": "(self)",
             "__repr__": "(self)", "__eq__": "(self, other)", "__len__": "(self)"},
+    Frame: {"__init__": "(self, circle, *, rounds=2, less=0)", "ties": "(self)", "world": "(self)",
+            "shows": "(self, circle)", "__len__": "(self)", "__eq__": "(self, other)", "__repr__": "(self)"},
+    Stretch: {"__init__": "(self, world, eyes=())", "eyes": "(self)", "distance": "(self, one, other)",
+              "lay": "(self, circle, one, other)", "world": "(self)", "twin": "(self)", "__len__": "(self)",
+              "__repr__": "(self)"},
+    Sights: {"__init__": "(self, world, eyes)", "eyes": "(self)", "partings": "(self)", "circle_for": "(self, parting)",
+             "least_size": "(self, parting)", "inner": "(self, parting)", "outer": "(self, parting)",
+             "__contains__": "(self, x)", "__len__": "(self)", "__repr__": "(self)"},
+    Book: {"__init__": "(self, *grants)", "read": "(text)", "grants": "(self)", "eyes": "(self)",
+           "with_grant": "(self, circle, name)", "without": "(self, at)", "only": "(self, lot)",
+           "first_unkept": "(self, world)", "kept_by": "(self, world)", "exchanged": "(self, first, second)",
+           "text": "(self)", "__add__": "(self, other)", "__iter__": "(self)", "__eq__": "(self, other)",
+           "__bool__": "(self)", "__len__": "(self)", "__str__": "(self)", "__repr__": "(self)"},
 }
+HOMES = {Circle: "circles", World: "worlds", Frame: "frames", Stretch: "stretches", Sights: "sights", Book: "books"}
+STATIC = {World: ["parted", "read"], Book: ["read"]}
 
 
 def is_written_out(node):
@@ -106,15 +142,20 @@ class FormTest(unittest.TestCase):
                 self.assertEqual(function.__module__, module.__name__)
 
     def test_classes_define_their_methods(self):
-        self.assertEqual([Circle.__module__, World.__module__], ["pooledeyes.circles", "pooledeyes.worlds"])
+        self.assertEqual({kind: kind.__module__ for kind in METHODS},
+                         {kind: "pooledeyes." + home for kind, home in HOMES.items()})
         for kind, methods in METHODS.items():
             for name, parameters in methods.items():
                 self.assertIn(name, vars(kind))
                 self.assertEqual(str(inspect.signature(getattr(kind, name))), parameters, (kind, name))
 
     def test_static_methods(self):
-        for name in ["parted", "read"]:
-            self.assertIsInstance(vars(World)[name], staticmethod)
+        for kind, names in STATIC.items():
+            for name in names:
+                self.assertIsInstance(vars(kind)[name], staticmethod)
+
+    def test_properties(self):
+        self.assertIsInstance(vars(Stretch)["spots"], property)
 
     def test_strings_and_lengths_are_returned_as_the_rules_tell(self):
         found = []
@@ -126,7 +167,7 @@ class FormTest(unittest.TestCase):
                     for row in ast.walk(node):
                         if isinstance(row, ast.Return):
                             self.assertTrue(RETURNED[node.name](row.value), (path, row.lineno))
-        self.assertEqual(sorted(found), ["__len__"] + ["__repr__"] * 2 + ["__str__"] * 2)
+        self.assertEqual(sorted(found), ["__len__"] * 5 + ["__repr__"] * 6 + ["__str__"] * 3)
 
     def test_words_that_stand_in_no_file(self):
         for path in source_files():
