@@ -113,8 +113,8 @@ class Book:
     def __add__(self, other):
         if not isinstance(other, Book):
             return NotImplemented
-        further = [grant for grant in other._grants if grant not in self._grants]
-        return Book(*self._grants, *further)
+        grants = self._grants + [grant for grant in other._grants if grant not in self._grants]
+        return Book(*grants)
 
     def __iter__(self):
         return iter(self._grants)

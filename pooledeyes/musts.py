@@ -36,7 +36,6 @@ def follows_from_others(book, at):
 
 def lean(book):
     """The lean book of a book."""
-    check_frames(book)
     kept = book
     for at in range(len(book) - 1, -1, -1):
         if follows_from_others(kept, at):

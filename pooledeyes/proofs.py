@@ -107,6 +107,6 @@ def is_row(value, at, names):
     if not isinstance(value, tuple) or len(value) != 4:
         return False
     p, q, rule, because = value
-    if not isinstance(p, str) or not isinstance(q, str) or not isinstance(rule, str) or rule not in names:
+    if not isinstance(p, str) or not isinstance(q, str) or rule not in names:
         return False
     return isinstance(because, tuple) and all([is_number(index, 0, at - 1) for index in because])

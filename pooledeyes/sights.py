@@ -5,7 +5,7 @@ tuple (size, kind, one, other): kind is eye, with the name as one, or pool or
 common, with two other sights as one and other.
 """
 
-from pooledeyes.circles import built, eye
+from pooledeyes.circles import Circle, built, eye
 from pooledeyes.errors import InvalidEyes, InvalidParting, TooMany
 from pooledeyes.partings import joined, met, within
 from pooledeyes.words import is_name
@@ -81,6 +81,8 @@ class Sights:
         self._check_parting(parting)
         if parting not in self._recipes:
             return None
+        if self._recipes[parting][0] > Circle.LIMIT:
+            raise TooMany("eyes", Circle.LIMIT)
         return cooked(parting, self._recipes)
 
     def least_size(self, parting):

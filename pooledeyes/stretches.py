@@ -52,7 +52,7 @@ class Stretch:
         for name in circle.eyes():
             if name not in self._eyes:
                 raise UnknownEye(name)
-        check_cases(self._last, (one, other))
+        # Values that are no spots are refused by distance.
         if not within(self.distance(one, other), self.begun.parting(circle)):
             raise NotAlike(one, other)
         ahead = self._last

@@ -101,9 +101,10 @@ class Table:
             if all([self.has(stage, pair) for pair in pairs]):
                 return rule, pairs
         # No other rule says so, so a grant does, by what stood at the stage ahead.
-        ways = [[(p, circle), (name, q)] for circle, name in self._grants]
-        standing = [pairs for pairs in ways if all([self.has(stage - 1, pair) for pair in pairs])]
-        return "grant", standing[0]
+        standing = [(circle, name) for circle, name in self._grants
+                    if self.has(stage - 1, (p, circle)) and self.has(stage - 1, (name, q))]
+        circle, name = standing[0]
+        return "grant", [(p, circle), (name, q)]
 
     def _plain_ways(self, p, q):
         """The list of the ways in which p may tell q without a grant: a rule, and the pairs that it needs."""
@@ -123,8 +124,8 @@ class Table:
         return ways
 
     def rank_of(self, p, q):
-        """A key by which the pairs that a way needs stand ahead of the pair that needs them."""
-        return self.stage_of(p, q), self._lefts[p].size + self._rights[q].size, p, q
+        """A tuple that is greater than that of each pair that p and q need."""
+        return self.stage_of(p, q), self._lefts[p].size + self._rights[q].size
 
 
 def in_some(lines):
@@ -152,8 +153,8 @@ def needed_ways(table, t, s):
         if (p, q) not in ways:
             ways[p, q] = table.way_of(p, q)
             waiting.extend(ways[p, q][1])
-    ranks = sorted([table.rank_of(p, q) for p, q in ways])
-    return [(p, q) + ways[p, q] for _, _, p, q in ranks]
+    ranked = sorted([(table.rank_of(p, q), (p, q)) for p, q in ways])
+    return [pair + ways[pair] for _, pair in ranked]
 
 
 class Proof:

@@ -94,6 +94,12 @@ class RefusedTest(RefusingTest):
         self.refused(TooMany, GRANTS, Book((A, "y")).__add__, full(12))
         self.assertEqual(full(12) + full(5), full(12))
 
+    def test_sums_with_what_is_no_book(self):
+        for value in any_values():
+            if not isinstance(value, Book):
+                with self.assertRaises(TypeError):
+                    Book() + value
+
     def test_a_refused_call_changes_nothing(self):
         book = full(12)
         text = book.text()

@@ -60,6 +60,13 @@ class IsDescentTest(RefusingTest):
             ("(a & b) | (a & b & c)", "a & b", "each", (4, 7)),
             ("((a & b) | (a & b & c)) & d", "a & b", "left", (8,))])
 
+    def test_the_rule_eye_is_for_eyes_alone(self):
+        for text in ["a & b", "a | b", "a & (b | c)"]:
+            self.wrong(text, text, [(text, text, "eye", ())])
+            self.wrong(text, text, [("a", "a", "eye", ()), (text, text, "eye", ())])
+        self.wrong("a", "b", [("a", "b", "eye", ())])
+        self.wrong("a", "a", [("a", "a", "eye", ()), ("a", "a", "eye", (0,))])
+
     def test_rows_that_are_not_needed_may_stand(self):
         self.right("a", "a", [("b", "b", "eye", ()), ("a", "a", "eye", ()), ("b", "b", "eye", ()),
                               ("a", "a", "eye", ())])

@@ -61,13 +61,22 @@ class LogTest(RefusingTest):
         self.wrong([(0, 1, 2), (0, 1, 4), (7, 1, 2)], 1)
 
     def test_entries_of_another_form(self):
-        for entry in [(), (0,), (0, 1), (0, 1, 2, 3), [0, 1, 2], (3, 1, 2), (-1, 1, 2), (0, 0, 1), (0, 1, 5), (0, 5, 1),
+        # From behind, -3 would be the grant 0, and 0 would be the case 4.
+        for entry in [(-3, 1, 2), (-2, 2, 3), (0, 0, 4), (0, 4, 0), (0, -3, 1), (0, 1, -2),
+                      (), (0,), (0, 1), (0, 1, 2, 3), [0, 1, 2], (3, 1, 2), (-1, 1, 2), (0, 0, 1), (0, 1, 5), (0, 5, 1),
                       (0, -1, 2), (False, 1, 2), (0, True, 2), (0, 2, True), ("0", 1, 2), (0, "1", 2), (0, 1, "2"),
                       (None, 1, 2), (0, None, 2), (0, 1, None), ((0,), 1, 2), (0, (1, 2)), ((0, 1, 2),), (True, 2, 3),
                       (0.0, 1, 2), (0, 1.0, 2), (0, 10 ** 8, 1), (10 ** 8, 1, 2), 0, "012", None]:
             self.wrong([entry], 0)
             self.wrong([(0, 1, 2), (1, 1, 3), entry], 2)
             self.wrong([(0, 1, 2), entry, None], 1)
+
+    def test_grants_counted_from_behind(self):
+        for text, at in [("a > b\n", -1), ("a > b\nb > c\n", -2), ("b > c\na > b\n", -1)]:
+            book = Book.read(text)
+            self.refused(InvalidLog, {"at": 0}, walked, WORLD, book, [(at, 1, 2)])
+            self.assertIs(is_log(WORLD, book, [(at, 1, 2)]), False)
+            self.assertIs(is_log(WORLD, book, [(len(book) + at, 1, 2)]), True)
 
     def test_values_of_all_kinds(self):
         for value in any_values():

@@ -154,6 +154,17 @@ class MustTellTest(RefusingTest):
                 self.assertIs(follows(book, eye("zz"), "zy"), True)
                 self.assertIs(follows_from_others(book, 1), False)
 
+    def test_257_ties_behind_an_unlike_grant(self):
+        # The first grant makes the books unlike, but the circles of all grants are asked.
+        great = Book((eye("a"), "b"), (with_ties(257), "c"))
+        for first, second in [(great, Book()), (Book(), great), (great, great), (great, read("a > b"))]:
+            self.refused(TooMany, TIES, unlike_grant, first, second)
+            self.refused(TooMany, TIES, books_alike, first, second)
+        self.refused(TooMany, TIES, lean, great)
+        fits = Book((eye("a"), "b"), (with_ties(256), "c"))
+        self.assertEqual([unlike_grant(fits, Book()), unlike_grant(Book(), fits)], [(0, 0), (1, 0)])
+        self.assertEqual(lean(fits), fits)
+
     def test_grants_of_great_circles(self):
         book = Book((GREAT, "zz"), (eye("a"), "b"))
         self.assertIs(must_tell(book, eye("a"), eye("b")), True)

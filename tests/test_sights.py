@@ -189,6 +189,36 @@ class SightsTest(RefusingTest):
             circle = sights.circle_for(parting)
             self.assertEqual([world.parting(circle), circle.size], [parting, sights.least_size(parting)])
 
+    def test_a_least_size_of_60(self):
+        world = World.read("cases 12\na 1 2 3 3 5 6 2 8 8 1 5 12\nb 1 2 3 2 1 6 7 6 3 10 10 12\n"
+                           "c 1 1 3 3 5 6 7 7 5 6 5 5\n")
+        sights, parting = Sights(world, ["a", "b", "c"]), (1, 2, 3, 3, 1, 6, 6, 2, 6, 1, 1, 12)
+        self.assertEqual([len(sights), sights.least_size(parting)], [127, 60])
+        circle = sights.circle_for(parting)
+        self.assertEqual([world.parting(circle), circle.size], [parting, 60])
+
+    def test_least_sizes_above_the_bounds(self):
+        world = World.read("cases 11\na 1 2 3 4 1 4 7 1 7 3 11\nb 1 2 3 4 3 6 7 3 6 4 3\nc 1 1 3 1 5 5 7 7 3 1 11\n")
+        sights = Sights(world, ["a", "b", "c"])
+        sizes = [sights.least_size(parting) for parting in sights.partings()]
+        self.assertEqual([len(sights), max(sizes)], [102, 90])
+        self.assertGreater(len([size for size in sizes if size > 60]), 1)
+        for parting, size in zip(sights.partings(), sizes):
+            self.assertIs(parting in sights, True)
+            if size > 60:
+                self.refused(TooMany, {"what": "eyes", "most": 60}, sights.circle_for, parting)
+            elif size <= 21:
+                circle = sights.circle_for(parting)
+                self.assertEqual([world.parting(circle), circle.size], [parting, size])
+            else:
+                # Only where a circle of this size is deeper than 20, TooMany may be raised.
+                try:
+                    circle = sights.circle_for(parting)
+                except TooMany as error:
+                    self.assertEqual([error.what, error.most], ["depth", 20])
+                else:
+                    self.assertEqual([world.parting(circle), circle.size], [parting, size])
+
     def test_many_cases(self):
         world = World(2400, [("a", case, case + 1) for case in range(1, 2400, 2)] +
                       [("b", case, case + 1) for case in range(2, 2400, 2)])
