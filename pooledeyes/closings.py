@@ -8,23 +8,23 @@ from pooledeyes.worlds import tied_world
 
 def closing_log(world, book):
     """The closing log of a world under a book."""
-    log, _ = closed_by(world, book)
+    log, _ = closed_by(world, book.grants())
     return log
 
 
 def closed_world(world, book):
     """The closing of a world under a book."""
-    _, closed = closed_by(world, book)
+    _, closed = closed_by(world, book.grants())
     return closed
 
 
-def closed_by(world, book):
-    """The pair of the closing log of a world under a book and the world behind it."""
+def closed_by(world, grants):
+    """The pair of the closing log of a world under any number of grants and the world behind it."""
     log = []
     done = -1
     while done < len(log):
         done = len(log)
-        for at, (circle, name) in enumerate(book.grants()):
+        for at, (circle, name) in enumerate(grants):
             pairs = pairs_shown(world.parting(circle), world.parting_named(name))
             if pairs:
                 log.extend([(at, one, other) for one, other in pairs])
@@ -99,3 +99,12 @@ def is_log(world, book, value):
     except InvalidLog:
         return False
     return True
+
+
+def log_shows(world, book, value, circle, one, other):
+    """Whether any value is a log of a world under a book, behind which two cases are alike to a circle."""
+    try:
+        behind = walked(world, book, value)
+    except InvalidLog:
+        return False
+    return behind.alike(circle, one, other)

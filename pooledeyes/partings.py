@@ -139,6 +139,17 @@ def within(first, second):
     return all([second[at] == second[item - 1] for at, item in enumerate(first)])
 
 
+def split_pair(first, second):
+    """The pair of the first case that parts the first right parting from the second one, None if it is within it.
+
+    The two cases are alike in the first parting and not in the second one.
+    """
+    for case, item in enumerate(first, start=1):
+        if second[case - 1] != second[item - 1]:
+            return item, case
+    return None
+
+
 def spread(parting, cases):
     """The ascending tuple of the cases that are alike to one of some cases."""
     items = set([parting[case - 1] for case in cases])

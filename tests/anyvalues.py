@@ -4,7 +4,11 @@ from pooledeyes.books import Book
 from pooledeyes.circles import common, eye, pool
 from pooledeyes.errors import InvalidName
 from pooledeyes.frames import Frame
+from pooledeyes.guards import Guard
+from pooledeyes.office import Office
+from pooledeyes.plans import Plan
 from pooledeyes.sights import Sights
+from pooledeyes.sketches import Sketch
 from pooledeyes.stretches import Stretch
 from pooledeyes.worlds import World
 
@@ -36,7 +40,9 @@ def some_books():
 
 def some_things():
     """New objects of the package that are neither circles nor errors."""
-    return some_worlds() + some_books() + [Frame(eye("a")), Stretch(World(2)), Sights(World(1), ["a"])]
+    return some_worlds() + some_books() + [
+        Frame(eye("a")), Stretch(World(2)), Sights(World(1), ["a"]), Guard(Book()), Guard(Book(), (eye("a"), eye("b"))),
+        Plan(), Plan(("learns", "a", eye("b"))), Sketch(1), Sketch(2, ("alike", eye("a"), 1, 2)), Office()]
 
 
 def without_strings():

@@ -5,22 +5,26 @@ import inspect
 import pathlib
 import unittest
 
-from pooledeyes import (betweens, books, chains, circles, circletexts, closings, descents, events, frames, keys, musts,
-                        outs,
-                        partings, puts, showing, sights, stretches, tables, words, worlds)
+from pooledeyes import (betweens, books, carrying, chains, circles, circletexts, closings, descents, events, frames,
+                        guards, keys, lots, musts, office, outs, papers, partings, plans, puts, reasons, refuters,
+                        rounds, showing, sights, sketches, sketchpapers, stretches, tables, words, worlds)
 from pooledeyes.books import Book
 from pooledeyes.circles import Circle
 from pooledeyes.frames import Frame
+from pooledeyes.guards import Guard
+from pooledeyes.office import Office
+from pooledeyes.plans import Plan
 from pooledeyes.sights import Sights
+from pooledeyes.sketches import Sketch
 from pooledeyes.stretches import Stretch
 from pooledeyes.worlds import World
 
 FOLDER = pathlib.Path(words.__file__).parent
 # In the order of the document, in which each module needs only those above it; proofs is no module of the document.
 MODULES = ["errors", "words", "circles", "circletexts", "puts", "partings", "worlds", "showing", "chains", "events",
-           "frames",
-           "stretches", "proofs", "descents", "keys", "betweens", "outs", "sights", "books", "closings", "musts",
-           "tables"]
+           "frames", "stretches", "proofs", "descents", "keys", "betweens", "outs", "sights", "books", "closings",
+           "musts", "tables", "refuters", "lots", "guards", "papers", "plans", "rounds", "carrying", "sketches",
+           "reasons", "sketchpapers", "office"]
 PARAMETERS = {
     words: {"is_name": "(value)", "is_number": "(value, least, most)"},
     circles: {"eye": "(name)", "pool": "(*circles)", "common": "(*circles)"},
@@ -50,6 +54,21 @@ PARAMETERS = {
             "follows": "(book, circle, name)", "follows_from_others": "(book, at)", "lean": "(book)",
             "books_alike": "(first, second)", "unlike_grant": "(first, second)", "grants_for": "(circle, shown)"},
     tables: {"table_tells": "(book, t, s)", "derivation_of": "(book, t, s)", "is_derivation": "(book, t, s, value)"},
+    refuters: {"all_worlds": "(many, eyes)", "least_refuter": "(t, s, *, under=None, most=3)"},
+    lots: {"least_lots": "(book, t, s)", "brings": "(book, lot, t, s)"},
+    guards: {},
+    papers: {"paper_for": "(book, t, s)", "is_paper": "(book, t, s, value)", "guard_paper": "(guard)",
+             "is_guard_paper": "(guard, value)"},
+    plans: {},
+    rounds: {"is_pooled": "(plan)", "is_blurred": "(plan)", "stands_still": "(plan, *, most=4)",
+             "pooled_book": "(plan)", "world_rounds": "(plan, world)"},
+    carrying: {"unkept_behind": "(plan, book)", "broken_behind": "(plan, guard)", "book_ahead": "(plan, book)"},
+    sketches: {},
+    reasons: {"least_reasons": "(sketch, circle, one, other)", "idle_sayings": "(sketch)"},
+    sketchpapers: {"sketch_paper": "(sketch)", "is_sketch_paper": "(sketch, value)",
+                   "outlook_paper": "(sketch, circle, one, other)",
+                   "is_outlook_paper": "(sketch, circle, one, other, value)"},
+    office: {"replayed": "(journal)"},
 }
 METHODS = {
     Circle: {"parts": "(self)", "eyes": "(self)", "__str__": "(self)", "__repr__": "(self)",
@@ -72,8 +91,30 @@ METHODS = {
            "first_unkept": "(self, world)", "kept_by": "(self, world)", "exchanged": "(self, first, second)",
            "text": "(self)", "__add__": "(self, other)", "__iter__": "(self)", "__eq__": "(self, other)",
            "__bool__": "(self)", "__len__": "(self)", "__str__": "(self)", "__repr__": "(self)"},
+    Guard: {"__init__": "(self, book, *bans)", "bans": "(self)", "with_book": "(self, book)",
+            "with_ban": "(self, one, other)", "without_ban": "(self, at)", "first_broken": "(self)",
+            "is_safe": "(self)", "one_world": "(self)", "unsafe_lots": "(self)", "safe_lots": "(self)",
+            "may_add": "(self, circle, name)", "gains": "(self, circle, name, questions)",
+            "__eq__": "(self, other)", "__bool__": "(self)", "__len__": "(self)", "__repr__": "(self)"},
+    Plan: {"__init__": "(self, *shares)", "shares": "(self)", "eyes": "(self)", "image": "(self, name, *, rounds=1)",
+           "images": "(self, *, rounds=1)", "pulled": "(self, circle, *, rounds=1)",
+           "done": "(self, world, *, rounds=1)", "alike": "(self, other)", "unlike_eye": "(self, other)",
+           "needless": "(self)", "exchangeable": "(self, at)", "lost": "(self)", "taken_back": "(self)",
+           "without": "(self, at)", "followed_by": "(self, other)", "__eq__": "(self, other)",
+           "__bool__": "(self)", "__len__": "(self)", "__repr__": "(self)"},
+    Sketch: {"__init__": "(self, many, *sayings, under=None)", "sayings": "(self)", "bare": "(self)",
+             "filling": "(self)", "first_broken": "(self)", "stands": "(self)", "kept_by": "(self, world)",
+             "outlook": "(self, circle, one, other)", "with_saying": "(self, word, circle, one, other)",
+             "without": "(self, at)", "merged": "(self, other)", "with_book": "(self, book)",
+             "__eq__": "(self, other)", "__bool__": "(self)", "__len__": "(self)", "__repr__": "(self)"},
+    Office: {"__init__": "(self)", "do": "(self, *deeds)", "undo": "(self)", "redo": "(self)", "history": "(self)",
+             "journal": "(self)", "ask": "(self, *question)", "tried": "(self, deeds, question)",
+             "world_of": "(self, name)", "guard_of": "(self, name)", "plan_of": "(self, name)",
+             "sketch_of": "(self, name)", "twin": "(self)", "__contains__": "(self, x)", "__eq__": "(self, other)",
+             "__bool__": "(self)", "__len__": "(self)", "__repr__": "(self)"},
 }
-HOMES = {Circle: "circles", World: "worlds", Frame: "frames", Stretch: "stretches", Sights: "sights", Book: "books"}
+HOMES = {Circle: "circles", World: "worlds", Frame: "frames", Stretch: "stretches", Sights: "sights", Book: "books",
+         Guard: "guards", Plan: "plans", Sketch: "sketches", Office: "office"}
 STATIC = {World: ["parted", "read"], Book: ["read"]}
 
 
@@ -156,6 +197,7 @@ class FormTest(unittest.TestCase):
 
     def test_properties(self):
         self.assertIsInstance(vars(Stretch)["spots"], property)
+        self.assertIsInstance(vars(Office)["busy"], property)
 
     def test_strings_and_lengths_are_returned_as_the_rules_tell(self):
         found = []
@@ -167,7 +209,7 @@ class FormTest(unittest.TestCase):
                     for row in ast.walk(node):
                         if isinstance(row, ast.Return):
                             self.assertTrue(RETURNED[node.name](row.value), (path, row.lineno))
-        self.assertEqual(sorted(found), ["__len__"] * 5 + ["__repr__"] * 6 + ["__str__"] * 3)
+        self.assertEqual(sorted(found), ["__len__"] * 9 + ["__repr__"] * 10 + ["__str__"] * 3)
 
     def test_words_that_stand_in_no_file(self):
         for path in source_files():
