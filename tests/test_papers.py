@@ -129,7 +129,8 @@ class IsPaperTest(RefusingTest):
     def test_logs_that_are_longer_or_shorter(self):
         book, a, c = book_of("a > b, b > c"), eye("a"), eye("c")
         for log, wanted in [([(0, 1, 2), (1, 1, 2)], True), (((0, 1, 2), (1, 1, 2)), True),
-                            ([(0, 2, 1), (1, 1, 2)], True), ([(0, 1, 2)], False), ([(1, 1, 2)], False), ([], False), ([(1, 1, 2), (0, 1, 2)], False),
+                            ([(0, 2, 1), (1, 1, 2)], True), ([(0, 1, 2)], False), ([(1, 1, 2)], False),
+                            ([], False), ([(1, 1, 2), (0, 1, 2)], False),
                             ([(0, 1, 2), (0, 1, 2), (1, 2, 1)], True), ([(0, 1, 2), (1, 1, 2), (2, 1, 2)], False),
                             ([[0, 1, 2], (1, 1, 2)], False), ([(0, 1, 2), (1, 1, 3)], False)]:
             self.assertIs(is_paper(book, a, c, ("told", log)), wanted, log)

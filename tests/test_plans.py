@@ -140,7 +140,8 @@ class ImageTest(RefusingTest):
     def test_pulled(self):
         plan = plan_of("a learns b, c swaps d")
         for text, rounds, wanted in [("a", 1, "a & b"), ("a | b", 1, "b"), ("a | c", 1, "(a & b) | d"),
-                                     ("z & a", 0, "a & z"), ("c & d", 2, "c & d"), ("c & a & z", 3, "a & b & d & z"), ("b | b", 1, "b")]:
+                                     ("z & a", 0, "a & z"), ("c & d", 2, "c & d"), ("c & a & z", 3, "a & b & d & z"),
+                                     ("b | b", 1, "b")]:
             self.assertEqual(plan.pulled(read_circle(text), rounds=rounds), read_circle(wanted), text)
         self.assertEqual(plan.pulled(circle=read_circle("z & a")), read_circle("a & b & z"))
         self.assertEqual(Plan().pulled(read_circle("b & a & (b | a)")), read_circle("a & b"))
