@@ -16,7 +16,7 @@ from pooledeyes.musts import lean, must_tell
 from pooledeyes.plans import Plan, WORDS
 from pooledeyes.sketches import Sketch
 from pooledeyes.words import is_name
-from pooledeyes.worlds import World, check_cases, check_names
+from pooledeyes.worlds import World, check_names
 
 MOST_THINGS = 12
 

@@ -28,10 +28,10 @@ def idle_sayings(sketch):
     for word, circle, one, other in sayings:
         if word == "unlike":
             check_sayings(sayings + [("alike", circle, one, other)])
-    return [at for at in range(len(sayings)) if is_idle(sketch, sayings, at)]
+    return [at for at in range(len(sayings)) if is_idle_saying(sketch, sayings, at)]
 
 
-def is_idle(sketch, sayings, at):
+def is_idle_saying(sketch, sayings, at):
     """Whether a sketch that stands says already, without its saying with an index, what this one tells."""
     word, circle, one, other = sayings[at]
     rest = sayings[:at] + sayings[at + 1:]

@@ -3,7 +3,7 @@
 from pooledeyes.books import Book
 from pooledeyes.errors import InvalidEyes, InvalidNumber, TooMany
 from pooledeyes.partings import all_partings, split_pair
-from pooledeyes.words import is_name, is_number
+from pooledeyes.words import is_eye_row, is_number
 from pooledeyes.worlds import world_with
 
 MOST_WORLDS = 4000
@@ -14,7 +14,8 @@ MOST_EYES = 8
 def all_worlds(many, eyes):
     """All worlds of so many cases in which only the eyes of a list take cases for alike, in order."""
     check_number(many)
-    check_eyes(eyes)
+    if not is_eye_row(eyes, 0, MOST_EYES):
+        raise InvalidEyes()
     names = list(eyes)
     check_worlds(many, names)
     for row in rows_of_partings(many, names):
@@ -40,14 +41,6 @@ def check_number(value):
     """Refuse a value that is no number of cases of worlds that are gone through."""
     if not is_number(value, 1, MOST_CASES):
         raise InvalidNumber(value)
-
-
-def check_eyes(value):
-    """Refuse any value that is no list or tuple of 0 to 8 different names."""
-    if not isinstance(value, (list, tuple)) or len(value) > MOST_EYES:
-        raise InvalidEyes()
-    if not all([is_name(name) for name in value]) or len(set(value)) < len(value):
-        raise InvalidEyes()
 
 
 def check_worlds(many, names):

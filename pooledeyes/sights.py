@@ -8,19 +8,11 @@ common, with two other sights as one and other.
 from pooledeyes.circles import Circle, built, eye
 from pooledeyes.errors import InvalidEyes, InvalidParting, TooMany
 from pooledeyes.partings import joined, met, within
-from pooledeyes.words import is_name
+from pooledeyes.words import is_eye_row
 from pooledeyes.worlds import is_parting_to
 
 MOST_EYES = 6
 MOST_SIGHTS = 200
-
-
-def check_eyes(value):
-    """Refuse any value that is no list or tuple of 1 to 6 different names."""
-    if not isinstance(value, (list, tuple)) or not 1 <= len(value) <= MOST_EYES:
-        raise InvalidEyes()
-    if not all([is_name(name) for name in value]) or len(set(value)) < len(value):
-        raise InvalidEyes()
 
 
 def recipes_for(world, names):
@@ -63,7 +55,8 @@ class Sights:
     """The sights of a world for a row of eyes. They never change."""
 
     def __init__(self, world, eyes):
-        check_eyes(eyes)
+        if not is_eye_row(eyes, 1, MOST_EYES):
+            raise InvalidEyes()
         self.begun = world
         self._eyes = list(eyes)
         self._recipes = recipes_for(world, eyes)

@@ -16,3 +16,10 @@ def is_number(value, least, most):
     if isinstance(value, bool) or not isinstance(value, int):
         return False
     return least <= value <= most
+
+
+def is_eye_row(value, least, most):
+    """Whether any value is a list or tuple of different names, of at least and at most so many."""
+    if not isinstance(value, (list, tuple)) or not least <= len(value) <= most:
+        return False
+    return all([is_name(name) for name in value]) and len(set(value)) == len(value)
