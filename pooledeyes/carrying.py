@@ -9,7 +9,9 @@ from pooledeyes.musts import grants_for, must_tell
 def unkept_behind(plan, book):
     """The index of the first grant that is not surely kept behind a plan under a book, None if all are."""
     pairs = [(plan.pulled(circle), plan.image(name)) for circle, name in book.grants()]
-    check_firsts(pairs)
+    # Also where a grant ahead is not kept, all frames are wanted.
+    for circle, _ in pairs:
+        check_frame(circle, ROUNDS, 0)
     for at, (circle, shown) in enumerate(pairs):
         if not must_tell(book, circle, shown):
             return at
@@ -19,14 +21,7 @@ def unkept_behind(plan, book):
 def broken_behind(plan, guard):
     """The ascending list of the indexes of the bans of a guard that are broken behind a plan under its book."""
     pairs = [(plan.pulled(circle), plan.pulled(told)) for circle, told in guard.bans()]
-    check_firsts(pairs)
     return [at for at, (circle, told) in enumerate(pairs) if must_tell(guard.book, circle, told)]
-
-
-def check_firsts(pairs):
-    """Refuse pairs with a first circle of which the frame has too many ties."""
-    for circle, _ in pairs:
-        check_frame(circle, ROUNDS, 0)
 
 
 def book_ahead(plan, book):

@@ -109,8 +109,6 @@ class Guard:
     def gains(self, circle, name, questions):
         """The ascending list of the indexes of the pairs (t, s) for which t must tell s just with one more grant."""
         check_names((name,))
-        for t, _ in questions:
-            check_frame(t, ROUNDS, 0)
         grants = self.book.grants()
         found = []
         for at, (t, s) in enumerate(questions):
