@@ -1,6 +1,7 @@
 """The form of the files of the package: what shared/LANGUAGE.md asks and a test can see."""
 
 import ast
+import builtins
 import inspect
 import pathlib
 import unittest
@@ -136,6 +137,11 @@ def is_length(node):
     return isinstance(node, ast.Call) and isinstance(node.func, ast.Name) and node.func.id == "len"
 
 
+def imported_names(tree):
+    """The list of the names that a file imports."""
+    return [item.name for node in tree.body if isinstance(node, ast.ImportFrom) for item in node.names]
+
+
 RETURNED = {"__str__": is_written_out, "__repr__": is_written_out, "__len__": is_length}
 
 
@@ -210,6 +216,24 @@ class FormTest(unittest.TestCase):
                         if isinstance(row, ast.Return):
                             self.assertTrue(RETURNED[node.name](row.value), (path, row.lineno))
         self.assertEqual(sorted(found), ["__len__"] * 9 + ["__repr__"] * 10 + ["__str__"] * 3)
+
+    def test_no_name_hides_an_import_a_class_or_a_builtin(self):
+        for path in source_files():
+            tree = ast.parse(path.read_text())
+            taken = imported_names(tree) + [node.name for node in tree.body if isinstance(node, ast.ClassDef)]
+            for node in ast.walk(tree):
+                if isinstance(node, ast.arg):
+                    self.assertNotIn(node.arg, taken + dir(builtins), path)
+                if isinstance(node, ast.Name) and isinstance(node.ctx, ast.Store):
+                    self.assertNotIn(node.id, taken + dir(builtins), path)
+                if isinstance(node, ast.FunctionDef):
+                    self.assertNotIn(node.name, imported_names(tree), path)
+
+    def test_imports_are_used(self):
+        for path in source_files():
+            tree = ast.parse(path.read_text())
+            used = {node.id for node in ast.walk(tree) if isinstance(node, ast.Name)}
+            self.assertEqual([name for name in imported_names(tree) if name not in used], [], path)
 
     def test_words_that_stand_in_no_file(self):
         for path in source_files():
